@@ -1,0 +1,1 @@
+"""Brokers of messages, decided for all runs."""

@@ -1,0 +1,237 @@
+"""The rules of ../shared/LANGUAGE.md, as far as they can be told from the syntax."""
+
+import ast
+import builtins
+import os
+import re
+import unittest
+
+ROOT = os.path.join(os.path.dirname(os.path.abspath(__file__)), os.pardir)
+FOLDER = os.path.join(ROOT, "allbrokers")
+
+BUILTINS = set("""len range enumerate zip min max sum abs sorted reversed int str bool bytes list tuple dict set frozenset
+isinstance ord repr any all divmod getattr hasattr setattr iter next type Exception ValueError TypeError KeyError IndexError
+LookupError ZeroDivisionError ArithmeticError OverflowError RuntimeError NotImplementedError AttributeError StopIteration
+NotImplemented property classmethod staticmethod super""".split())
+
+METHODS = set("""append clear copy count endswith extend find get index insert isalnum isalpha isdigit islower isspace isupper
+items join keys ljust lower lstrip partition pop remove replace reverse rfind rjust rpartition rsplit rstrip setdefault split
+splitlines startswith strip update upper values zfill bit_length isascii add discard""".split())
+
+SPECIAL = set("""__init__ __eq__ __repr__ __str__ __len__ __enter__ __exit__ __call__ __iter__ __lt__ __le__ __gt__ __ge__ __ne__
+__add__ __sub__ __mul__ __and__ __or__ __bool__ __contains__ __getitem__ __setitem__""".split())
+
+BARRED = set("""typing typing_extensions enum Enum IntEnum StrEnum Flag IntFlag Generic Protocol ABC ABCMeta namedtuple
+NamedTuple TypedDict TYPE_CHECKING abstractmethod register mro elements open input law exit vars dir id eval exec""".split())
+
+# What the interface of DOC.md lists, of the modules that are written.
+INTERFACE = {
+    "errors": """BrokerError BadMachine BadStates BadRun BadAllowances BadKinds BadFormula BadSettings NoPromise TooLarge BadPrices
+        NoSettings NotSeen BadText BadName NoPart NothingDone""",
+    "machines": "Machine last_state trace_of union",
+    "falls": "Least least_falls falls_of holds_for is_within least_of",
+    "limits": "Limits",
+    "walking": "runs stepper is_seen far_states",
+    "promises": "Kept Broken judge_never Able Stuck Farthest judge_can farthest dead_states",
+    "delays": "Longest Endless delay",
+    "outside": "Alike Unlike judge_alike is_trace",
+    "watching": "Told Hidden tells watch Watcher",
+    "barring": "Barring barring",
+    "merging": "classes merged do_the_same told_apart holds",
+}
+
+OWN_METHODS = {
+    "Machine": "behind reached without showing __len__ __eq__",
+    "Limits": """any_of told is_below text __getitem__ __contains__ __len__ __iter__ __bool__ __eq__ __or__ __and__ __add__ __sub__
+        __mul__""",
+    "Watcher": "ask see known __call__ __len__ __iter__",
+}
+EVIDENCE = "Least Kept Broken Able Stuck Farthest Longest Endless Alike Unlike Told Hidden Barring".split()
+
+
+def trees():
+    found = {}
+    for name in sorted(os.listdir(FOLDER)):
+        if name.endswith(".py"):
+            with open(os.path.join(FOLDER, name), encoding="utf-8") as file:
+                found[name[:-3]] = file.read()
+    return {name: (text, ast.parse(text)) for name, text in found.items()}
+
+
+TREES = trees()
+
+
+def nodes(*kinds):
+    for name, (_, tree) in TREES.items():
+        for node in ast.walk(tree):
+            if isinstance(node, kinds):
+                yield name, node
+
+
+def defined(tree):
+    return [node.name for node in tree.body if isinstance(node, (ast.FunctionDef, ast.ClassDef))]
+
+
+class Files(unittest.TestCase):
+    def test_folder(self):
+        for name in os.listdir(FOLDER):
+            self.assertTrue(re.fullmatch("[a-z0-9_]+[.]py", name) or name == "__pycache__", name)
+
+    def test_lines_and_characters(self):
+        for name, (text, _) in TREES.items():
+            self.assertLessEqual(len(text.splitlines()), 399, name)
+            self.assertTrue(all(char == "\n" or " " <= char <= "~" for char in text), name)
+            for line in text.splitlines():
+                self.assertLessEqual(len(line), 120, (name, line))
+            self.assertNotRegex(text, r"dataclass|overload|contextmanager|\(type\)|Meta|metaclass=|_wall")
+
+    def test_functions_are_short(self):
+        for name, node in nodes(ast.FunctionDef):
+            self.assertLessEqual(node.end_lineno - node.lineno + 1, 40, (name, node.name))
+
+
+class Modules(unittest.TestCase):
+    def test_module_level(self):
+        allowed = (ast.Import, ast.ImportFrom, ast.FunctionDef, ast.ClassDef, ast.Assign)
+        for name, (_, tree) in TREES.items():
+            self.assertIsNotNone(ast.get_docstring(tree), name)
+            for node in tree.body[1:]:
+                self.assertIsInstance(node, allowed, name)
+                if isinstance(node, ast.Assign):
+                    ast.literal_eval(node.value)
+
+    def test_imports(self):
+        for name, node in nodes(ast.Import, ast.ImportFrom):
+            self.assertIsInstance(node, ast.ImportFrom, name)
+            package, module = node.module.split(".")
+            self.assertEqual((package, node.level), ("allbrokers", 0))
+            names = defined(TREES[module][1])
+            for alias in node.names:
+                self.assertIsNone(alias.asname)
+                self.assertIn(alias.name, names, (name, module))
+
+    def test_imports_are_used(self):
+        for name, (_, tree) in TREES.items():
+            used = {node.id for node in ast.walk(tree) if isinstance(node, ast.Name)}
+            for node in ast.walk(tree):
+                if isinstance(node, ast.ImportFrom):
+                    for alias in node.names:
+                        self.assertIn(alias.name, used, name)
+
+    def test_no_cycles(self):
+        ahead = {name: set() for name in TREES}
+        for name, node in nodes(ast.ImportFrom):
+            ahead[name].add(node.module.split(".")[1])
+        left = dict(ahead)
+        while left:
+            free = [name for name in left if not left[name] & set(left)]
+            self.assertTrue(free, left)
+            for name in free:
+                del left[name]
+
+
+class Names(unittest.TestCase):
+    def test_builtins(self):
+        for name, node in nodes(ast.Name):
+            if hasattr(builtins, node.id):
+                self.assertIn(node.id, BUILTINS, (name, node.lineno))
+                self.assertIsInstance(node.ctx, ast.Load, (name, node.lineno))
+
+    def test_no_parameter_hides_a_builtin_class_or_import(self):
+        for name, (_, tree) in TREES.items():
+            taken = {node.name for node in tree.body if isinstance(node, ast.ClassDef)}
+            taken |= {alias.name for node in tree.body if isinstance(node, ast.ImportFrom) for alias in node.names}
+            for node in ast.walk(tree):
+                words = [node.arg] if isinstance(node, ast.arg) else []
+                if isinstance(node, ast.Name) and isinstance(node.ctx, ast.Store):
+                    words = [node.id]
+                for word in words:
+                    self.assertNotIn(word, taken, name)
+                    self.assertFalse(hasattr(builtins, word), (name, word))
+
+    def test_barred_words(self):
+        for name, node in nodes(ast.Name, ast.arg, ast.Attribute, ast.FunctionDef, ast.ClassDef):
+            for field in ("id", "arg", "attr", "name"):
+                self.assertNotIn(getattr(node, field, None), BARRED, name)
+
+    def test_special_methods(self):
+        for name, node in nodes(ast.FunctionDef):
+            if node.name.startswith("__"):
+                self.assertIn(node.name, SPECIAL, name)
+
+    def test_methods(self):
+        own = {node.name for _, node in nodes(ast.FunctionDef)}
+        for name, node in nodes(ast.Call):
+            if isinstance(node.func, ast.Attribute) and not node.func.attr.startswith("__"):
+                self.assertIn(node.func.attr, METHODS | own, (name, node.lineno))
+
+    def test_attributes_are_assigned_or_defined(self):
+        known = {node.name for _, node in nodes(ast.FunctionDef)} | METHODS
+        known |= {node.attr for _, node in nodes(ast.Attribute) if isinstance(node.ctx, ast.Store)}
+        for name, node in nodes(ast.Attribute):
+            self.assertTrue(node.attr in known or node.attr == "__init__", (name, node.attr))
+
+    def test_no_name_is_method_and_attribute_of_one_class(self):
+        for name, node in nodes(ast.ClassDef):
+            methods = {part.name for part in node.body if isinstance(part, ast.FunctionDef)}
+            stored = {part.attr for part in ast.walk(node) if isinstance(part, ast.Attribute) and isinstance(part.ctx, ast.Store)}
+            self.assertFalse(methods & stored, (name, node.name))
+
+    def test_class_methods_have_names_of_their_own(self):
+        stored = {node.attr for _, node in nodes(ast.Attribute) if isinstance(node.ctx, ast.Store)}
+        for _, node in nodes(ast.FunctionDef):
+            for decorator in node.decorator_list:
+                self.assertEqual(decorator.id, "classmethod")
+                self.assertNotIn(node.name, stored)
+
+
+class Statements(unittest.TestCase):
+    def test_barred_syntax(self):
+        barred = (ast.Global, ast.AsyncFunctionDef, ast.Await, ast.GeneratorExp, ast.Lambda, ast.Try, ast.With, ast.Assert,
+                  ast.NamedExpr, ast.Div, ast.Match)
+        for name, node in nodes(*barred):
+            self.fail(f"{name} {node}")
+
+    def test_values(self):
+        for name, node in nodes(ast.Constant):
+            self.assertNotIsInstance(node.value, (float, complex, bytes), name)
+
+    def test_is(self):
+        for name, node in nodes(ast.Compare):
+            for sign, right in zip(node.ops, node.comparators):
+                if isinstance(sign, (ast.Is, ast.IsNot)):
+                    is_none = isinstance(right, ast.Constant) and right.value is None
+                    is_type = isinstance(node.left, ast.Call) and node.left.func.id == "type"
+                    self.assertTrue(is_none or is_type, (name, node.lineno))
+
+    def test_sets_stand_in_sorted_or_in_a_variable(self):
+        for name, (_, tree) in TREES.items():
+            places = []
+            for node in ast.walk(tree):
+                if isinstance(node, ast.Assign) and len(node.targets) == 1 and isinstance(node.targets[0], ast.Name):
+                    places.append(node.value)
+                if isinstance(node, ast.Call) and isinstance(node.func, ast.Name) and node.func.id in ("sorted", "len"):
+                    places.extend(node.args)
+            for node in ast.walk(tree):
+                is_call = isinstance(node, ast.Call) and isinstance(node.func, ast.Name) and node.func.id == "set"
+                if is_call or isinstance(node, (ast.Set, ast.SetComp)):
+                    self.assertTrue(any(place is node for place in places), (name, node.lineno))
+
+    def test_errors_are_made_on_the_spot(self):
+        for name, node in nodes(ast.Raise):
+            self.assertIsInstance(node.exc, ast.Call, name)
+
+
+class Interface(unittest.TestCase):
+    def test_names_are_defined_in_their_files(self):
+        for name, words in INTERFACE.items():
+            for word in words.split():
+                self.assertIn(word, defined(TREES[name][1]), name)
+
+    def test_methods_are_defined_in_their_classes(self):
+        bodies = {node.name: {part.name for part in node.body if isinstance(part, ast.FunctionDef)}
+                  for _, node in nodes(ast.ClassDef)}
+        for name, words in OWN_METHODS.items():
+            self.assertLessEqual(set(words.split()), bodies[name], name)
+        for name in EVIDENCE:
+            self.assertLessEqual({"shows", "__eq__", "__init__"}, bodies[name], name)
