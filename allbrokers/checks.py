@@ -17,7 +17,7 @@ def is_word(value):
 
 def is_word_or_empty(value):
     """Whether a value can be the kind, or the word, of a step."""
-    return isinstance(value, str) and (value == "" or is_word(value))
+    return value == "" or is_word(value)
 
 
 def is_ascending(rows):

@@ -19,9 +19,9 @@ class Least:
     def shows(self, machine, goals):
         """Whether these are the least vectors, with runs and a table that proves it."""
         check_states(machine, goals)
-        if not are_vectors(machine, self.vectors) or self.vectors != least_of(self.vectors):
+        if not self._has_runs(machine, goals) or self.vectors != least_of(self.vectors):
             return False
-        if not self._has_runs(machine, goals) or not is_closed(machine, self.costs, any_number(machine)):
+        if not is_closed(machine, self.costs, any_number(machine)):
             return False
         ends = [vector for goal in goals for vector in self.costs.get(goal, [])]
         return all([has_below(self.vectors, vector) for vector in ends])
@@ -69,16 +69,25 @@ def holds_for(machine, goals, allowances):
 
 def is_within(vector, limits):
     """Whether no number is greater than its limit; None is no limit."""
-    return all([limit is None or number <= limit for number, limit in zip(vector, limits)])
+    for number, limit in zip(vector, limits):
+        if limit is not None and number > limit:
+            return False
+    return True
 
 
 def is_below(low, high):
     """Whether no number of a vector is greater than that of another one."""
-    return all([less <= more for less, more in zip(low, high)])
+    for less, more in zip(low, high):
+        if less > more:
+            return False
+    return True
 
 
 def has_below(vectors, vector):
     """Whether one of some vectors is below another one."""
+    # The same vector is there often, and is found fast.
+    if vector in vectors:
+        return True
     for low in vectors:
         if is_below(low, vector):
             return True

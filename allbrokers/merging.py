@@ -77,7 +77,7 @@ def check_formula(formula):
 
 def is_formula_outside(formula):
     """Whether a value is a formula as far as can be seen without a look at the formulas in it."""
-    if not isinstance(formula, tuple) or not formula or not isinstance(formula[0], str):
+    if not isinstance(formula, tuple) or not formula:
         return False
     if formula[0] == "in":
         return len(formula) == 2 and is_number(formula[1])

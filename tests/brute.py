@@ -153,6 +153,39 @@ def spread_marked(steps, now, kind):
         now = now | more
 
 
+def twin_ranks(machine, kind, free):
+    """The greatest numbers of words behind pairs, the first one behind a fall; None where there is none."""
+    steps = [step for step in machine.steps if not step[1] or step[1] in free]
+
+    def moves(node):
+        (one, mark), other = node
+        for s in steps:
+            if s[0] == one and not s[2]:
+                yield ((s[3], mark or s[1] == kind), other), 0
+            if s[0] == other and not s[2] and s[1] != kind:
+                yield ((one, mark), s[3]), 0
+            for t in steps:
+                if s[0] == one and t[0] == other and s[2] and s[2] == t[2] and t[1] != kind:
+                    yield ((s[3], mark or s[1] == kind), t[3]), 1
+
+    known, queue = {((0, False), 0)}, [((0, False), 0)]
+    while queue:
+        for node, _ in moves(queue.pop()):
+            if node not in known:
+                known.add(node)
+                queue.append(node)
+    longest = {node: 0 for node in known if node[0][1]}
+    ways = {node: list(moves(node)) for node in longest}
+    for _ in range((len(longest) + 1) ** 2):
+        later = {node: max([longest[goal] + word for goal, word in ways[node]], default=0) for node in ways}
+        if later == longest or max(later.values()) > len(longest):
+            break
+        longest = later
+    is_endless = later != longest if longest else False
+    ranks = {(node[0][0], node[1]): number for node, number in longest.items()}
+    return {pair: None for pair in ranks} if is_endless else ranks
+
+
 def same_pairs(machine, marks):
     """The greatest relation of states that do the same."""
     def color(state):

@@ -117,6 +117,13 @@ class Evidence(unittest.TestCase):
         found.ranks = {0: 2, 1: 1, 2: 0}
         self.assertFalse(found.shows(falls, (), {"x": 1}))
 
+    def test_longest_runs_must_be_within_the_allowances(self):
+        machine = Machine(3, [(0, "", "", 1), (0, "x", "", 2), (2, "", "", 1)])
+        ranks, costs = {0: 1, 1: 0}, {0: [(0,)], 1: [(0,)]}
+        self.assertTrue(Longest(1, [(0, "", "", 1)], ranks, costs).shows(machine, (), {}))
+        for run in ([(0, "x", "", 2), (2, "", "", 1)], [(2, "", "", 1)], [(0, "", "", 2)]):
+            self.assertFalse(Longest(1, run, ranks, costs).shows(machine, (), {}), run)
+
     def test_longest_wrong_ranks(self):
         for ranks in ({0: 2, 1: 1}, {0: 2, 1: 2, 2: 0}, {0: 3, 1: 1, 2: 0}, {0: 2, 1: 1, 2: -1}, {0: 1, 1: 1, 2: 0},
                       {0: 2, 1: 0, 2: 0}, {}, {**RANKS, 4: 0}, {**RANKS, -1: 0}):

@@ -173,7 +173,7 @@ class Formulas(unittest.TestCase):
         bad = [None, 3, "in", (), ("in",), ("in", -1), ("in", True), ("in", "0"), ("in", 0, 0), ["in", 0], ("not",),
                ("not", ("in", 0), ("in", 0)), ("not", ["in", 0]), ("not", None), ("can", "", ""), ("can", "", "", []),
                ("can", "", "", None), ("can", "X", "", ()), ("can", "", "A", ()), ("can", None, "", ()), ("can", "", 1, ()),
-               ("can", "", "", (("in", 0), 3)), ("can", "", "", ("in", 0)), ("or", ("in", 0)), (("in",), 0),
+               ("can", "", "", (("in", 0), 3)), ("can", "", "", ("in", 0)), ("or", ("in", 0)), ("or", "", "", ()), (("in",), 0),
                ("can", "abcdefghi", "", ()), ("can", "", "", (), ()), ([], 0)]
         for formula in bad:
             for wrapped in (formula, ("not", formula), ("can", "z", "", (("in", 0), formula))):

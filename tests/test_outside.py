@@ -96,6 +96,17 @@ class Evidence(unittest.TestCase):
             self.assertFalse(Alike(self.pairs + [pair]).shows(self.one, self.other, ()), pair)
         self.assertFalse(Alike([]).shows(self.one, self.other, ()))
 
+    def test_tuples_must_have_all_that_unseen_steps_lead_to(self):
+        one, other = Machine(3, [(1, "", "", 2)]), Machine(3, [(1, "", "", 2)])
+        for pair, is_so in ((((1, 2), (1, 2)), True), (((1,), (2,)), False), (((2,), (1,)), False), (((2,), (2,)), True)):
+            self.assertEqual(Alike([((0,), (0,)), pair]).shows(one, other, ()), is_so)
+
+    def test_words_of_one_alone(self):
+        none, seen = Machine(1, []), Machine(1, [(0, "", "a", 0)])
+        for pairs in ([((0,), (0,))], [((0,), (0,)), ((), (0,))], [((0,), (0,)), ((0,), ())]):
+            self.assertFalse(Alike(pairs).shows(none, seen, ()))
+            self.assertFalse(Alike(pairs).shows(seen, none, ()))
+
     def test_pairs_of_other_free_kinds(self):
         one, other = Machine(2, [(0, "x", "", 1)]), Machine(1, [])
         self.assertTrue(Alike([((0,), (0,))]).shows(one, other, ()))

@@ -197,7 +197,7 @@ class Can(unittest.TestCase):
         self.assertTrue(shows(ranks, {**costs, 3: [(1,)]}))
         for wrong in ({0: 2, 1: 1}, {0: 2, 1: 2, 2: 0}, {0: 1, 1: 1, 2: 0}, {0: 0, 1: 1, 2: 0}, {0: 2, 1: 0, 2: 0},
                       {0: 2, 1: 1, 2: 1}, {0: 2, 1: 1, 2: -1}, {0: 2, 1: 0, 2: -1}, {**ranks, 3: 1}, {**ranks, 3: 0},
-                      {**ranks, 5: 0}, {**ranks, -1: 3}, {}, {**ranks, 4: 9}):
+                      {**ranks, 5: 0}, {**ranks, 5: 3}, {**ranks, -4: 2}, {**ranks, -1: 3}, {}, {**ranks, 4: 9}):
             self.assertFalse(shows(wrong, costs), wrong)
         for wrong in ({}, {0: [(0,)]}, {**costs, 2: []}, {**costs, 3: [(0,)]}, {**costs, 5: [(1,)]}, {**costs, 0: [(1,)]}):
             self.assertFalse(shows(ranks, wrong), wrong)

@@ -7,7 +7,7 @@ from allbrokers.errors import BadKinds, NotSeen
 from allbrokers.machines import Machine
 from allbrokers.walking import runs
 from allbrokers.watching import Hidden, Told, Watcher, tells, watch
-from brute import ends_behind, rng_of, some_machine, told_by_trace
+from brute import ends_behind, rng_of, some_machine, told_by_trace, twin_ranks
 from test_outside import WRONG_FREE
 
 EXAMPLE = Machine(3, [(0, "x", "", 1), (1, "", "a", 1), (0, "", "a", 0), (1, "", "b", 2)])
@@ -88,6 +88,37 @@ class Tells(unittest.TestCase):
                 self.assertGreater(number, 0)
         self.assertEqual({(bool_, number) for bool_, number in answers if number < 2}, {(False, 0), (True, 0), (True, 1)})
 
+    def test_long_loops(self):
+        for many in (2, 3, 4, 7):
+            ring = [(s, "", "a", s % many + 1) for s in range(1, many + 1)]
+            machine = Machine(many + 1, ring + [(0, "x", "", 1), (0, "", "a", 0)])
+            found = tells(machine, "x", ("x",))
+            self.assertFalse(found)
+            self.assertTrue(found.shows(machine, "x", ("x",)))
+            other = Machine(many + 1, ring + [(0, "x", "", 1)])
+            self.assertEqual(tells(other, "x", ("x",)), Told(0, {(1, 0): 0}))
+
+    def test_ranks_at_random(self):
+        rng = rng_of(53)
+        numbers = set()
+        for _ in range(600):
+            many = rng.randint(2, 6)
+            steps = []
+            for _ in range(rng.randint(2, 10)):
+                state = rng.randrange(many)
+                goal = rng.randrange(state, many) if rng.random() < 0.8 else rng.randrange(many)
+                steps.append((state, rng.choice(["", "", "", "x", "y"]), rng.choice(["", "a", "a", "b"]), goal))
+            machine, free = Machine(many, steps), rng.choice([("x",), ("x", "y")])
+            found, ranks = tells(machine, "x", free), twin_ranks(machine, "x", free)
+            self.assertTrue(found.shows(machine, "x", free))
+            self.assertEqual(bool(found), None not in ranks.values())
+            if found:
+                self.assertEqual(sorted(found.ranks), sorted(ranks))
+                self.assertEqual(found.number, max(ranks.values(), default=0))
+                self.assertTrue(Told(found.number, ranks).shows(machine, "x", free))
+            numbers.add(found.number if found else None)
+        self.assertTrue({None, 0, 1, 2} <= numbers, numbers)
+
     def test_long(self):
         machine = Machine(3000, [(s, "", "a", s + 1) for s in range(2999)] + [(0, "x", "", 1000)])
         found = tells(machine, "x", ("x",))
@@ -146,9 +177,9 @@ class Evidence(unittest.TestCase):
             self.assertFalse(shows(wrong, [], loop, other_loop), wrong)
         for wrong in (run, other_loop, [(0, "", "b", 0)]):
             self.assertFalse(shows(run, wrong, loop, other_loop), wrong)
-        for wrong in ([], loop * 2, [(1, "", "b", 2)], [(1, "", "b", 1)], other_loop):
+        for wrong in ([], loop * 2, [(1, "", "b", 2)], [(1, "", "b", 1)], other_loop, [(0, "", "a", 1)], [(9, "", "a", 1)]):
             self.assertFalse(shows(run, [], wrong, other_loop), wrong)
-        for wrong in ([], other_loop * 2, loop, [(0, "", "b", 0)]):
+        for wrong in ([], other_loop * 2, loop, [(0, "", "b", 0)], [(1, "", "a", 0)]):
             self.assertFalse(shows(run, [], loop, wrong), wrong)
         self.assertFalse(shows(run, [], [], []))
 
@@ -174,6 +205,13 @@ class Evidence(unittest.TestCase):
                                               (steps[1:2], steps[5:6], ("x",), False),
                                               (steps[1:2], steps[5:6], ("x", "y"), True)):
             self.assertEqual(Hidden(run, [], loop, other_loop).shows(machine, "x", free), is_so)
+
+    def test_hidden_first_run_must_have_a_fall_itself(self):
+        machine = Machine(1, [(0, "", "a", 0), (0, "x", "a", 0)])
+        calm, fall = [(0, "", "a", 0)], [(0, "x", "a", 0)]
+        for run, loop, is_so in (([], calm, False), ([], fall, False), (calm, fall, False), (fall, calm, True)):
+            found = Hidden(run, calm[:len(run)], loop, calm)
+            self.assertEqual(found.shows(machine, "x", ("x",)), is_so)
 
     def test_equality_copies_and_truth(self):
         ranks, run = {(0, 1): 2}, [1]
