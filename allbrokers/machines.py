@@ -48,7 +48,8 @@ class Machine:
         """The ascending list of the states in which runs end."""
         found, known, at = [0], {0: True}, 0
         while at < len(found):
-            for step in self.by_state[found[at]]:
+            state = found[at]
+            for step in self.by_state[state]:
                 if step[3] not in known:
                     known[step[3]] = True
                     found.append(step[3])

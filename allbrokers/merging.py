@@ -278,9 +278,9 @@ class Telling:
             told = [self._told[(goal, other)] for other in others]
             most = max([count_false(part[2], others) for part in told])
             size = min([part[0] for part in told if count_false(part[2], others) == most])
-            part = [part for part in told if (part[0], count_false(part[2], others)) == (size, most)][0]
-            parts.append(part)
-            others = [other for other in others if part[2][other]]
+            best = [part for part in told if (part[0], count_false(part[2], others)) == (size, most)][0]
+            parts.append(best)
+            others = [other for other in others if best[2][other]]
         return parts
 
     def _can(self, size, label, parts):

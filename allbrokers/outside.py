@@ -66,7 +66,8 @@ class Outlook:
         queue, at = sorted(set(states)), 0
         known = set(states)
         while at < len(queue):
-            for goal in self.unseen[queue[at]]:
+            state = queue[at]
+            for goal in self.unseen[state]:
                 if goal not in known:
                     known.add(goal)
                     queue.append(goal)

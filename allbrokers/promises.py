@@ -165,9 +165,10 @@ def distances(machine, goals):
             sources[step[3]].append(step[0])
     far, queue, at = {goal: 0 for goal in goals}, list(goals), 0
     while at < len(queue):
-        for source in sources[queue[at]]:
+        state = queue[at]
+        for source in sources[state]:
             if source not in far:
-                far[source] = far[queue[at]] + 1
+                far[source] = far[state] + 1
                 queue.append(source)
         at += 1
     return far

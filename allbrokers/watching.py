@@ -116,9 +116,10 @@ class Twins:
         """Moves from a place to another one that it leads to."""
         origins, queue, at = {start: None}, [start], 0
         while goal not in origins:
-            for move in self.moves[queue[at]]:
+            place = queue[at]
+            for move in self.moves[place]:
                 if move[0] not in origins:
-                    origins[move[0]] = (queue[at], move)
+                    origins[move[0]] = (place, move)
                     queue.append(move[0])
             at += 1
         moves = []
