@@ -7,12 +7,13 @@ from allbrokers.errors import BadAllowances
 class Limits:
     """Limits for kinds of falls: integers from 0, or None for any number."""
 
-    def __init__(self, told=None, **more):
+    # No kind has a name with a line in it, so that each one but told can be given by name.
+    def __init__(self_, told=None, **more):
         given = {} if told is None else told
         if not are_allowances(given) or not are_allowances(more):
             raise BadAllowances("not a dict from words to integers from 0, or None")
         joined = {**given, **more}
-        self._limits = {kind: joined[kind] for kind in sorted(joined) if joined[kind] != 0}
+        self_._limits = {kind: joined[kind] for kind in sorted(joined) if joined[kind] != 0}
 
     @classmethod
     def any_of(cls, *kinds):

@@ -67,12 +67,9 @@ def check_formula(formula):
         depth += 1
         if depth > MOST_DEPTH:
             raise BadFormula("nested too deep")
-        inner = []
-        for part in layer:
-            if not is_formula_outside(part):
-                raise BadFormula("not a formula")
-            inner.extend(parts_of(part))
-        layer = inner
+        if not all([is_formula_outside(part) for part in layer]):
+            raise BadFormula("not a formula")
+        layer = [inner for part in layer for inner in parts_of(part)]
 
 
 def is_formula_outside(formula):

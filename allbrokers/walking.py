@@ -7,14 +7,12 @@ from allbrokers.machines import end_of, trace_of
 def runs(machine, most, *, kinds=None):
     """Generate all runs of at most so many steps, shorter ones first, then ascending."""
     ways = [[step for step in steps if not step[1] or kinds is None or step[1] in kinds] for steps in machine.by_state]
-    layer, length = [[]], 0
-    while layer and length <= most:
-        later = []
+    layer = [[]] if most >= 0 else []
+    length = 0
+    while layer:
         for run in layer:
             yield list(run)
-            if length < most:
-                later.extend([run + [step] for step in ways[end_of(run)]])
-        layer = later
+        layer = [run + [step] for run in layer for step in ways[end_of(run)]] if length < most else []
         length += 1
 
 
@@ -23,14 +21,11 @@ def stepper(machine):
     state = 0
     many = 0
 
-    # None would not do as the default: a call with None is refused, as any that is no step.
-    def go(step=("no", "step", "told")):
+    # What is given is counted: a value that stands for none could be given, too, and must be refused then.
+    def go(*told, **named):
         nonlocal state, many
-        if step == ("no", "step", "told"):
-            ways = machine.by_state[state]
-            if not ways or ways[0][1]:
-                raise BadRun(many)
-            step = ways[0]
+        given = list(told) + list(named.values())
+        step = given[0] if given else first_own(machine, state)
         if not machine.has_step(step) or step[0] != state:
             raise BadRun(many)
         state = step[3]
@@ -38,6 +33,14 @@ def stepper(machine):
         return state
 
     return go
+
+
+def first_own(machine, state):
+    """The first step of its own from a state, None if there is none."""
+    for step in machine.by_state[state]:
+        if not step[1]:
+            return step
+    return None
 
 
 def is_seen(run, *words):
@@ -51,14 +54,15 @@ def is_seen(run, *words):
 
 def far_states(machine, *, most=None):
     """The dict from the states in which runs end to the least numbers of their steps."""
-    far, layer, length = {0: 0}, [0], 0
-    while layer and (most is None or length < most):
-        length += 1
-        later = []
-        for state in layer:
-            for step in machine.by_state[state]:
-                if step[3] not in far:
-                    far[step[3]] = length
-                    later.append(step[3])
-        layer = later
+    if most is not None and most < 0:
+        return {}
+    far, queue, at = {0: 0}, [0], 0
+    while at < len(queue):
+        state = queue[at]
+        goals = [step[3] for step in machine.by_state[state]] if most is None or far[state] < most else []
+        for goal in goals:
+            if goal not in far:
+                far[goal] = far[state] + 1
+                queue.append(goal)
+        at += 1
     return {state: far[state] for state in sorted(far)}

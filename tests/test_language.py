@@ -222,6 +222,96 @@ class Statements(unittest.TestCase):
             self.assertIsInstance(node.exc, ast.Call, name)
 
 
+CHANGING = set("append extend insert pop remove clear reverse setdefault update add discard appendleft".split())
+
+
+def parts_of(expression):
+    """The names, attributes and items that an expression may give, not those that it copies."""
+    if isinstance(expression, ast.IfExp):
+        return parts_of(expression.body) | parts_of(expression.orelse)
+    if isinstance(expression, ast.BoolOp):
+        return {part for value in expression.values for part in parts_of(value)}
+    if isinstance(expression, ast.Call):
+        name = getattr(expression.func, "id", getattr(expression.func, "attr", None))
+        if name in ("enumerate", "zip", "reversed", "iter"):
+            return {part for value in expression.args for part in parts_of(value)}
+        if name in ("items", "keys", "values"):
+            return parts_of(expression.func.value)
+        return set()
+    if isinstance(expression, ast.Attribute):
+        return {"." + expression.attr}
+    if isinstance(expression, (ast.Name, ast.Subscript)):
+        return {ast.unparse(expression)}
+    return set()
+
+
+def plain_assignments(function):
+    """Pairs of a target and what is assigned to it, several at once taken apart."""
+    for node in ast.walk(function):
+        if isinstance(node, ast.Assign):
+            for target in node.targets:
+                if isinstance(target, ast.Tuple) and isinstance(node.value, ast.Tuple):
+                    yield from zip(target.elts, node.value.elts)
+                else:
+                    yield target, node.value
+
+
+def alias_groups(function):
+    """Dict from a name to all names that may stand for the same value, in whatever order it is assigned."""
+    groups = {}
+    for target, value in plain_assignments(function):
+        names = parts_of(target) | parts_of(value)
+        if not isinstance(target, ast.Tuple) and len(names) > 1:
+            joined = set(names)
+            for name in names:
+                joined |= groups.get(name, set())
+            groups.update({name: joined for name in joined})
+    return groups
+
+
+def changed_in(body):
+    found = set()
+    for part in body:
+        for node in ast.walk(part):
+            if isinstance(node, ast.Call) and isinstance(node.func, ast.Attribute) and node.func.attr in CHANGING:
+                found |= parts_of(node.func.value)
+            targets = node.targets if isinstance(node, (ast.Assign, ast.Delete)) else []
+            targets = [node.target] if isinstance(node, ast.AugAssign) else targets
+            for target in targets:
+                if isinstance(target, ast.Subscript):
+                    found |= parts_of(target.value)
+                elif isinstance(node, ast.AugAssign):
+                    found |= parts_of(target)
+    return found
+
+
+def changed_loops(tree):
+    for function in ast.walk(tree):
+        if isinstance(function, ast.FunctionDef):
+            groups = alias_groups(function)
+            for node in ast.walk(function):
+                if isinstance(node, ast.For):
+                    walked = {name for part in parts_of(node.iter) for name in groups.get(part, {part})}
+                    if walked & changed_in(node.body):
+                        yield node.lineno
+
+
+class Loops(unittest.TestCase):
+    def test_what_a_loop_walks_is_not_changed_in_it(self):
+        for name, (_, tree) in TREES.items():
+            self.assertEqual(list(changed_loops(tree)), [], name)
+
+    def test_the_check_finds_other_names(self):
+        bad = ["for x in xs:\n  xs.append(x)", "for x in xs:\n  ys.append(x)\n xs = ys", "for x in self.a:\n  b.a.pop()",
+               "for x in (a if x else b):\n  b[0] = 1", "for x, y in enumerate(d.items()):\n  del d[x]"]
+        for text in bad:
+            tree = ast.parse("def f():\n " + text)
+            self.assertEqual(list(changed_loops(tree)), [2], text)
+        good = ["for x in list(xs):\n  xs.append(x)", "for x in xs:\n  ys.append(x)", "for x in xs[0]:\n  xs.append(x)"]
+        for text in good:
+            self.assertEqual(list(changed_loops(ast.parse("def f():\n " + text))), [], text)
+
+
 class Interface(unittest.TestCase):
     def test_names_are_defined_in_their_files(self):
         for name, words in INTERFACE.items():

@@ -32,6 +32,15 @@ class LimitsTest(unittest.TestCase):
         for empty in (Limits(), Limits(None), Limits({}), Limits({"x": 0})):
             self.assertEqual(empty.told(), {})
 
+    def test_each_kind_by_name(self):
+        for kind in ("self", "cls", "given", "more", "joined", "limits", "kind", "a", "abcdefgh"):
+            self.assertEqual(Limits(**{kind: 2}).told(), {kind: 2})
+            self.assertEqual(Limits({kind: 1}, **{kind: None}).told(), {kind: None})
+            self.assertEqual(Limits({"x": 1}, **{kind: 0}).told(), {"x": 1})
+        with self.assertRaises(BadAllowances):
+            Limits(self=-1)
+        self.assertEqual(Limits(told={"x": 1}, y=2).told(), {"x": 1, "y": 2})
+
     def test_given_is_copied(self):
         given = {"x": 1}
         limits = Limits(given)

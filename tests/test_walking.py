@@ -10,7 +10,7 @@ from brute import rng_of, some_machine
 
 
 def all_runs(machine, most):
-    found = [[]]
+    found = [[]] if most >= 0 else []
     for length in range(1, most + 1):
         for steps in itertools.product(machine.steps, repeat=length):
             ends = [0] + [step[3] for step in steps]
@@ -41,6 +41,8 @@ class Runs(unittest.TestCase):
         self.assertEqual(list(runs(loop, 0)), [[]])
         self.assertEqual(list(runs(Machine(1, []), 50)), [[]])
         self.assertEqual(len(list(runs(Machine(2, [(0, "", "", 1)]), 10 ** 12))), 2)
+        for most in (-1, -2, -10 ** 12):
+            self.assertEqual(list(runs(loop, most)), [])
 
     def test_is_lazy_and_gives_new_lists(self):
         loop = Machine(1, [(0, "", "", 0)])
@@ -79,6 +81,22 @@ class Stepper(unittest.TestCase):
         self.assertEqual(go((1, "x", "", 0)), 0)
         self.assertEqual(go(), 2)
 
+    def test_whatever_is_no_step_is_refused(self):
+        values = [("no", "step", "told"), ("",), (0, "", ""), (), None, 0, "", [], {}, False, (0, "", "a", 2, 0), object(), stepper]
+        for value in values:
+            go = stepper(self.machine)
+            for many in range(2):
+                with self.assertRaises(BadRun, msg=value) as caught:
+                    go(value)
+                self.assertEqual(caught.exception.place, many)
+                self.assertEqual(go(), 2)
+
+    def test_by_name(self):
+        go = stepper(self.machine)
+        self.assertEqual(go(step=(0, "", "b", 1)), 1)
+        with self.assertRaises(BadRun):
+            go(step=None)
+
     def test_no_steps(self):
         with self.assertRaises(BadRun) as caught:
             stepper(Machine(1, []))()
@@ -104,12 +122,14 @@ class FarStates(unittest.TestCase):
         self.assertEqual(far_states(machine, most=0), {0: 0})
         self.assertEqual(far_states(machine, most=1), {0: 0, 3: 1, 4: 1})
         self.assertEqual(far_states(machine, most=10 ** 9), far_states(machine))
+        for most in (-1, -2, -10 ** 9):
+            self.assertEqual(far_states(machine, most=most), {})
 
     def test_at_random(self):
         rng = rng_of(5)
         for _ in range(60):
             machine = some_machine(rng, most_states=4, most_steps=6)
-            for most in (0, 1, 2, 3):
+            for most in (-1, 0, 1, 2, 3):
                 expected = {}
                 for run in all_runs(machine, most):
                     expected.setdefault(run[-1][3] if run else 0, len(run))
