@@ -3,6 +3,7 @@
 import unittest
 
 from allbrokers.barring import Barring
+from allbrokers.choices import Cheapest
 from allbrokers.delays import Endless, Longest
 from allbrokers.falls import Least
 from allbrokers.limits import Limits
@@ -18,7 +19,8 @@ def all_evidence():
     run, costs = [STEP], {0: [(0,)]}
     return [Least([(1,)], [run], costs), Kept(costs), Broken(run), Able({0: 0}, costs), Stuck(run, (1,)),
             Farthest(0, run, {0: 0}, costs), Longest(0, run, {0: 0}, costs), Endless(run, run), Alike([((0,), (1,))]),
-            Unlike(["a"], True), Told(0, {(0, 1): 0}), Hidden(run, run, run, run), Barring([("x",)], [costs], [run])]
+            Unlike(["a"], True), Told(0, {(0, 1): 0}), Hidden(run, run, run, run), Barring([("x",)], [costs], [run]),
+            Cheapest({"room": 1}, 0, [((("room", 2),), "lost", run)])]
 
 
 class Evidence(unittest.TestCase):
@@ -47,5 +49,6 @@ class Evidence(unittest.TestCase):
 
     def test_attributes_are_those_that_are_told(self):
         told = ["vectors runs costs", "costs", "run", "ranks costs", "run dead", "number run ranks costs", "number run ranks costs",
-                "run loop", "pairs", "trace is_first", "number ranks", "run other loop other_loop", "sets tables runs"]
+                "run loop", "pairs", "trace is_first", "number ranks", "run other loop other_loop", "sets tables runs",
+                "chosen price against"]
         self.assertEqual([" ".join(vars(one)) for one in all_evidence()], told)
