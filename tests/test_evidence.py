@@ -2,6 +2,7 @@
 
 import unittest
 
+from allbrokers import readers
 from allbrokers.barring import Barring
 from allbrokers.choices import Cheapest
 from allbrokers.delays import Endless, Longest
@@ -20,7 +21,8 @@ def all_evidence():
     return [Least([(1,)], [run], costs), Kept(costs), Broken(run), Able({0: 0}, costs), Stuck(run, (1,)),
             Farthest(0, run, {0: 0}, costs), Longest(0, run, {0: 0}, costs), Endless(run, run), Alike([((0,), (1,))]),
             Unlike(["a"], True), Told(0, {(0, 1): 0}), Hidden(run, run, run, run), Barring([("x",)], [costs], [run]),
-            Cheapest({"room": 1}, 0, [((("room", 2),), "lost", run)])]
+            Cheapest({"room": 1}, 0, [((("room", 2),), "lost", run)]),
+            readers.Alike([((0,), (1,))]), readers.Apart(["a"])]
 
 
 class Evidence(unittest.TestCase):
@@ -50,5 +52,5 @@ class Evidence(unittest.TestCase):
     def test_attributes_are_those_that_are_told(self):
         told = ["vectors runs costs", "costs", "run", "ranks costs", "run dead", "number run ranks costs", "number run ranks costs",
                 "run loop", "pairs", "trace is_first", "number ranks", "run other loop other_loop", "sets tables runs",
-                "chosen price against"]
+                "chosen price against", "pairs", "lane"]
         self.assertEqual([" ".join(vars(one)) for one in all_evidence()], told)

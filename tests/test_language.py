@@ -44,6 +44,11 @@ INTERFACE = {
     "routes": "Route Case",
     "links": "Link LinkCase",
     "choices": "judge Choices Cheapest cheapest",
+    "texts": "read_machine write_machine read_settings write_settings",
+    "books": "Book",
+    "reports": "report",
+    "readererrors": "BadReader BadLane BadRule BadQuestion BadTimes BadDeal BadBounds NoDeal",
+    "readers": "Reader behind_rows least Alike Apart judge_alike",
 }
 
 OWN_METHODS = {
@@ -56,8 +61,11 @@ OWN_METHODS = {
     "Link": "settings __eq__",
     "LinkCase": "bad",
     "Choices": "rows",
+    "Book": """titles entries claim promises_of change undo broken trial attempt __getitem__ __setitem__ __contains__ __len__
+        __iter__""",
+    "Reader": "after answer __call__ __len__ __eq__",
 }
-EVIDENCE = "Least Kept Broken Able Stuck Farthest Longest Endless Alike Unlike Told Hidden Barring Cheapest".split()
+EVIDENCE = "Least Kept Broken Able Stuck Farthest Longest Endless Alike Unlike Told Hidden Barring Cheapest Apart".split()
 
 
 def trees():
@@ -345,8 +353,11 @@ class Interface(unittest.TestCase):
                 self.assertIn(word, defined(TREES[name][1]), name)
 
     def test_methods_are_defined_in_their_classes(self):
-        bodies = {node.name: {part.name for part in node.body if isinstance(part, ast.FunctionDef)}
-                  for _, node in nodes(ast.ClassDef)}
+        bodies = {}
+        for _, node in nodes(ast.ClassDef):
+            methods = {part.name for part in node.body if isinstance(part, ast.FunctionDef)}
+            # Two classes have one name; what is asked of it is asked of both.
+            bodies[node.name] = bodies.get(node.name, methods) & methods
         for name, words in OWN_METHODS.items():
             self.assertLessEqual(set(words.split()), bodies[name], name)
         for name in EVIDENCE:
