@@ -175,7 +175,9 @@ class CheapestTest(unittest.TestCase):
             ({"check": "next", "room": 2}, 2, [second, (first[0], "doubled", run + run[-1:])]),
             ({"check": "next", "room": 2}, 2, [second, (first[0], "doubled", second[2])]),
             ({"check": "window", "room": 2}, 1, [first]), ({"check": "none", "room": 2}, 0, []), ({}, 2, good.against),
-            ({"check": "next", "room": 2, "keeps": True}, 2, good.against),
+            ({"check": "next", "room": 2, "keeps": True}, 2, good.against), ({"check": "next", "keeps": True}, 2, good.against),
+            ({"check": "next", "room": 2}, 2, [first, second, ((("check", "next"), ("room", 1)), "doubled", run)]),
+            ({"check": "next", "room": 2}, 2, [first, second, ((("check", "next"), ("room", 2)), "doubled", run)]),
         ]
         self.assertTrue(good.shows(choices, promises, allowances))
         self.assertTrue(Cheapest(good.chosen, 2, [second, first]).shows(choices, promises, allowances))
@@ -202,6 +204,11 @@ class CheapestTest(unittest.TestCase):
         self.assertTrue(Cheapest({"keeps": True, "room": 1}, 0, []).shows(choices, [], {}))
         self.assertFalse(Cheapest({"keeps": 1, "room": 1}, 0, []).shows(choices, [], {}))
         self.assertFalse(Cheapest({"keeps": True, "room": True}, 0, []).shows(choices, [], {}))
+        choices = Choices(True, {"repeats": {True: 0, False: 1}})
+        good = cheapest(choices, ["doubled"], {})
+        self.assertEqual(good.against[0][0], (("repeats", True),))
+        good.against[0] = ((("repeats", 1),), *good.against[0][1:])
+        self.assertFalse(good.shows(choices, ["doubled"], {}))
 
     def test_attributes_are_new(self):
         run = [(0, "", "", 1)]
@@ -232,6 +239,11 @@ class CheapestTest(unittest.TestCase):
             with self.assertRaises(NoPromise):
                 call(Choices(False, {}), ["disorder"], {})
         self.assertEqual(cheapest(good, ["doubled"], {}).price, 0)
+        row = {number: 0 for number in range(101)}
+        with self.assertRaises(TooLarge):
+            cheapest(Choices(True, {"room": row}), [], {})
+        row.pop(0)
+        self.assertEqual(cheapest(Choices(True, {"room": row}), [], {}).chosen, {"room": 1})
         with self.assertRaises(NoSettings):
             cheapest(Choices(True, {"check": {"none": 0}}), ["doubled"], {})
 

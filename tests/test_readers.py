@@ -144,10 +144,18 @@ class Readers(unittest.TestCase):
         with self.assertRaises(TypeError):
             behind_rows(ONE, [], 0)
         self.assertEqual(list(behind_rows(ONE, [])), [])
+        self.assertEqual([list(behind_rows(cycle(3), ["a", "b"])), list(behind_rows(cycle(3), ["a", "b"], state=1))], [[1, 2], [2, 0]])
         lane = ["a", "b"]
         generated = behind_rows(ONE, lane)
         self.assertEqual(next(generated), 1)
         self.assertEqual(list(generated), [2])
+
+    def test_from_what_is_no_state(self):
+        for state in (3, -1, None, True, "a"):
+            with self.assertRaises(BadLane):
+                ONE.after([], state)
+            with self.assertRaises(BadLane):
+                next(behind_rows(ONE, ["a"], state=state))
 
     def test_long_lanes(self):
         begin = time.perf_counter()
