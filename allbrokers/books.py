@@ -72,8 +72,9 @@ class Book:
 
     def entries(self):
         """Generate the pairs of a name and its part, by ascending names."""
-        for name in sorted(self.held):
-            yield name, self.held[name].part
+        held = self.held
+        for name in sorted(held):
+            yield name, held[name].part
 
     def claim(self, name, promise, allowances):
         """Judge a promise, and take it up if it is kept."""

@@ -209,6 +209,22 @@ class Names(unittest.TestCase):
                 self.assertNotIn(node.name, stored)
 
 
+    def test_generators_have_names_of_their_own(self):
+        functions = [node for _, node in nodes(ast.FunctionDef)]
+        names = [node.name for node in functions]
+        for node in functions:
+            if any(isinstance(part, (ast.Yield, ast.YieldFrom)) for part in ast.walk(node)):
+                self.assertEqual(names.count(node.name), 1, node.name)
+                self.assertNotIn(node.name, METHODS)
+
+    def test_the_first_parameter_beside_names_is_no_word(self):
+        # So that each word can be given by name.
+        for _, tree in nodes(ast.ClassDef):
+            for node in tree.body:
+                if isinstance(node, ast.FunctionDef) and node.args.kwarg:
+                    self.assertIn("_", node.args.args[0].arg, node.name)
+
+
 class Statements(unittest.TestCase):
     def test_barred_syntax(self):
         barred = (ast.Global, ast.AsyncFunctionDef, ast.Await, ast.GeneratorExp, ast.Lambda, ast.Try, ast.Assert,
