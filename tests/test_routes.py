@@ -104,6 +104,27 @@ class Machines(unittest.TestCase):
                 if told.get("need", 1) <= told.get("copies", 1):
                     self.check(told)
 
+    def test_copies(self):
+        many = 0
+        for copies, need, choice, reads, place in itertools.product((2, 3), (0, 1, 2, 3), ("any", "longest"), ("any", "safe"), VALUES["place"]):
+            if need <= copies:
+                told = {"copies": copies, "need": need, "choice": choice, "reads": reads, "place": place}
+                many += self.check({**told, "repeats": False, "window": None, "outlet": None}, most=500)
+        self.assertGreater(many, 50)
+
+    def test_safe_reads(self):
+        route = {"copies": 2, "need": 2, "repeats": False, "window": None, "outlet": None}
+        case = Case(Route(**route, reads="safe"))
+
+        def is_read_early(states, steps):
+            return any(step[2] == "out" and states[step[0]][1] == (1, 0) for step in steps)
+
+        self.assertFalse(is_read_early(case.states, case.machine.steps))
+        case = Case(Route(**route, reads="any"))
+        self.assertTrue(is_read_early(case.states, case.machine.steps))
+        case = Case(Route(**{**route, "need": 0}, reads="safe"))
+        self.assertTrue(is_read_early(case.states, case.machine.steps))
+
     def test_at_random(self):
         rng, many = rng_of(13), 0
         while many < 60:
