@@ -1,7 +1,7 @@
 """Readers of lanes: which state a lane leads to, and with which answer."""
 
 from allbrokers.checks import is_ascending, is_number, is_word
-from allbrokers.merging import refined
+from allbrokers.lanes import lane_to, least_steps
 from allbrokers.readererrors import BadLane, BadReader
 
 MOST_LETTERS = 12
@@ -110,17 +110,13 @@ def check_readers(one, other):
 def least(reader):
     """The reader with the same answers and as few states as can be, in the order of the first lanes to them."""
     check_reader(reader)
-    blocks = refined([[(letter, "", row[letter]) for letter in reader.letters] for row in reader.steps], reader.answers)
-    numbers, queue, steps = {blocks[0]: 0}, [0], []
-    while len(steps) < len(queue):
-        row, state = {}, queue[len(steps)]
-        for letter, goal in reader.steps[state].items():
-            if blocks[goal] not in numbers:
-                numbers[blocks[goal]] = len(queue)
-                queue.append(goal)
-            row[letter] = numbers[blocks[goal]]
-        steps.append(row)
-    return Reader(reader.letters, steps, [reader.answers[state] for state in queue])
+    return least_made(reader.letters, reader.steps, reader.answers)
+
+
+def least_made(letters, steps, answers):
+    """The least reader that has the same answers as one with these steps and answers, of whatever number."""
+    rows, states = least_steps(letters, steps, answers)
+    return Reader(letters, rows, [answers[state] for state in states])
 
 
 class Alike:
@@ -177,26 +173,24 @@ def goals_of(low_row, high_row, many):
 def judge_alike(one, other):
     """Alike or Apart: whether two readers have the same answer for each lane."""
     check_readers(one, other)
-    many, queue, origins = len(other), [0], [None]
-    known = {0: True}
-    at = 0
+    pairs, lane = compared(one, other, 0, 0)
+    return Alike(pairs) if lane is None else Apart(lane)
+
+
+def compared(one, other, low, high):
+    """The pairs to which lanes lead from states of two readers, and the first lane with unlike answers, or None."""
+    many = len(other)
+    queue, origins, at = [low * many + high], [None], 0
+    known = {queue[0]: True}
     while at < len(queue):
         low, high = divmod(queue[at], many)
         if one.answers[low] != other.answers[high]:
-            return Apart(lane_to(origins, one.letters, at))
-        for place, goal in enumerate(goals_of(one.steps[low], other.steps[high], many)):
+            return [], lane_to(origins, at)
+        goals = goals_of(one.steps[low], other.steps[high], many)
+        for letter, goal in zip(one.letters, goals):
             if goal not in known:
                 known[goal] = True
                 queue.append(goal)
-                origins.append((at, place))
+                origins.append((at, letter))
         at += 1
-    return Alike([divmod(pair, many) for pair in queue])
-
-
-def lane_to(origins, letters, at):
-    """The lane that leads to a place, by the place and the place of the letter that each place comes from."""
-    lane = []
-    while origins[at] is not None:
-        at, place = origins[at]
-        lane.append(letters[place])
-    return lane[::-1]
+    return [divmod(pair, many) for pair in queue], None

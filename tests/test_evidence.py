@@ -8,10 +8,13 @@ from allbrokers.choices import Cheapest
 from allbrokers.delays import Endless, Longest
 from allbrokers.falls import Least
 from allbrokers.limits import Limits
+from allbrokers.lastrows import LastRows, Never
 from allbrokers.machines import Machine
 from allbrokers.outside import Alike, Unlike
 from allbrokers.promises import Able, Broken, Farthest, Kept, Stuck
+from allbrokers.squeezing import Seen, Unseen
 from allbrokers.watching import Hidden, Told
+from allbrokers.weaving import Unwoven, Woven
 
 STEP = (0, "x", "a", 1)
 
@@ -22,7 +25,8 @@ def all_evidence():
             Farthest(0, run, {0: 0}, costs), Longest(0, run, {0: 0}, costs), Endless(run, run), Alike([((0,), (1,))]),
             Unlike(["a"], True), Told(0, {(0, 1): 0}), Hidden(run, run, run, run), Barring([("x",)], [costs], [run]),
             Cheapest({"room": 1}, 0, [((("room", 2),), "lost", run)]),
-            readers.Alike([((0,), (1,))]), readers.Apart(["a"])]
+            readers.Alike([((0,), (1,))]), readers.Apart(["a"]), Unseen([(0, ("y",), ("y",))]), Seen(["a"], ["b"]),
+            LastRows(0, [[(0, 1)]]), Never(["a"], ["b"], ["a"], ["b"]), Woven([(0, 0)]), Unwoven(["a"], "a", "b", ["b"])]
 
 
 class Evidence(unittest.TestCase):
@@ -52,5 +56,6 @@ class Evidence(unittest.TestCase):
     def test_attributes_are_those_that_are_told(self):
         told = ["vectors runs costs", "costs", "run", "ranks costs", "run dead", "number run ranks costs", "number run ranks costs",
                 "run loop", "pairs", "trace is_first", "number ranks", "run other loop other_loop", "sets tables runs",
-                "chosen price against", "pairs", "lane"]
+                "chosen price against", "pairs", "lane", "triples", "front lane", "number layers", "front other loop back", "pairs",
+                "front one other back"]
         self.assertEqual([" ".join(vars(one)) for one in all_evidence()], told)
