@@ -23,9 +23,9 @@ class LastRows:
         check_reader(reader)
         if self.number < 0 or len(self.layers) != self.number + 1:
             return False
-        classes, layer = classes_of(reader), []
+        classes, layers, layer = classes_of(reader), Layers(reader), []
         for place, told in enumerate(self.layers):
-            layer = layer_behind(reader, layer) if place else first_layer(reader)
+            layer = layers.behind(layer) if place else layers.first()
             if told != layer or are_same(classes, layer) != (place == self.number):
                 return False
         return True
@@ -65,10 +65,11 @@ def last_rows(reader):
     number, classes = rounds_to_one(reader)
     if number is None:
         return never_of(reader, classes)
-    layers = [first_layer(reader)]
-    while len(layers) <= number:
-        layers.append(layer_behind(reader, layers[-1]))
-    return LastRows(number, layers)
+    layers = Layers(reader)
+    found = [layers.first()]
+    while len(found) <= number:
+        found.append(layers.behind(found[-1]))
+    return LastRows(number, found)
 
 
 def classes_of(reader):
@@ -96,22 +97,37 @@ def rounds_to_one(reader):
     return number, classes
 
 
-def first_layer(reader):
-    """The ascending list of the pairs of unlike states that lanes lead to."""
-    states = sorted(walked(reader.letters, reader.steps)[0])
-    return [(low, high) for place, low in enumerate(states) for high in states[place + 1:]]
+class Layers:
+    """The layers of the pairs of unlike states to which lanes lead by the same last rows, one behind the other."""
 
+    def __init__(self, reader):
+        self._many = len(reader)
+        self._states = sorted(walked(reader.letters, reader.steps)[0])
+        self._columns = [[row[letter] for row in reader.steps] for letter in reader.letters]
+        # Layers can have many pairs in common: each pair is made once.
+        self._pairs = {}
 
-def layer_behind(reader, layer):
-    """The ascending list of the pairs of unlike states to which one row leads from pairs."""
-    many, found = len(reader), {}
-    for letter in reader.letters:
-        goals = [row[letter] for row in reader.steps]
-        for low, high in layer:
-            one, other = goals[low], goals[high]
-            if one != other:
-                found[one * many + other if one < other else other * many + one] = True
-    return [divmod(pair, many) for pair in sorted(found)]
+    def first(self):
+        """The ascending list of the pairs of unlike states that lanes lead to."""
+        states = self._states
+        return self._pairs_of([low * self._many + high for at, low in enumerate(states) for high in states[at + 1:]])
+
+    def behind(self, layer):
+        """The ascending list of the pairs of unlike states to which one row leads from pairs."""
+        many, found = self._many, {}
+        for goals in self._columns:
+            for low, high in layer:
+                one, other = goals[low], goals[high]
+                if one != other:
+                    found[one * many + other if one < other else other * many + one] = True
+        return self._pairs_of(sorted(found))
+
+    def _pairs_of(self, numbers):
+        """The pairs of some numbers."""
+        for number in numbers:
+            if number not in self._pairs:
+                self._pairs[number] = divmod(number, self._many)
+        return [self._pairs[number] for number in numbers]
 
 
 def are_same(classes, layer):
