@@ -5,8 +5,12 @@ import unittest
 from allbrokers import readers
 from allbrokers.barring import Barring
 from allbrokers.choices import Cheapest
+from allbrokers.deals import Moves
 from allbrokers.delays import Endless, Longest
 from allbrokers.falls import Least
+from allbrokers.handing import Barred, Order
+from allbrokers.histories import History
+from allbrokers.keeping import Rate
 from allbrokers.limits import Limits
 from allbrokers.lastrows import LastRows, Never
 from allbrokers.machines import Machine
@@ -26,7 +30,8 @@ def all_evidence():
             Unlike(["a"], True), Told(0, {(0, 1): 0}), Hidden(run, run, run, run), Barring([("x",)], [costs], [run]),
             Cheapest({"room": 1}, 0, [((("room", 2),), "lost", run)]),
             readers.Alike([((0,), (1,))]), readers.Apart(["a"]), Unseen([(0, ("y",), ("y",))]), Seen(["a"], ["b"]),
-            LastRows(0, [[(0, 1)]]), Never(["a"], ["b"], ["a"], ["b"]), Woven([(0, 0)]), Unwoven(["a"], "a", "b", ["b"])]
+            LastRows(0, [[(0, 1)]]), Never(["a"], ["b"], ["a"], ["b"]), Woven([(0, 0)]), Unwoven(["a"], "a", "b", ["b"]),
+            Rate(1, 2), Moves([("k", "x", "y")], "leaving", ["x"]), History([{"k": "x"}], 0, [1]), Order([("k", "x", "y")], [["x", "y"]]), Barred(["x"])]
 
 
 class Evidence(unittest.TestCase):
@@ -57,5 +62,5 @@ class Evidence(unittest.TestCase):
         told = ["vectors runs costs", "costs", "run", "ranks costs", "run dead", "number run ranks costs", "number run ranks costs",
                 "run loop", "pairs", "trace is_first", "number ranks", "run other loop other_loop", "sets tables runs",
                 "chosen price against", "pairs", "lane", "triples", "front lane", "number layers", "front other loop back", "pairs",
-                "front one other back"]
+                "front one other back", "number tick", "moves way readers", "deals moves prices", "moves parts", "readers"]
         self.assertEqual([" ".join(vars(one)) for one in all_evidence()], told)

@@ -55,6 +55,12 @@ INTERFACE = {
     "coarsest": "least_rule coarsest coarsest_of both either within drops_more keeping_last",
     "lastrows": "LastRows Never last_rows",
     "weaving": "Woven Unwoven judge_weaving",
+    "times": "Times greatest_lag lags lag_lines Lag Growing",
+    "keeping": "least_keeping Keep Rate least_rate",
+    "deals": "Moves least_moves",
+    "flows": "",
+    "histories": "History least_history",
+    "handing": "Order Barred hand_over",
 }
 
 OWN_METHODS = {
@@ -72,9 +78,15 @@ OWN_METHODS = {
     "Reader": "after answer __call__ __len__ __eq__",
     "Rule": "kept squeezed __eq__",
     "Unwoven": "weavings",
+    "Times": "at up_to ticks __getitem__ __iter__ __add__ __mul__ __eq__",
+    "Lag": "__eq__ __bool__",
+    "Growing": "__eq__ __bool__",
+    "Keep": "__eq__ __bool__",
 }
 EVIDENCE = """Least Kept Broken Able Stuck Farthest Longest Endless Alike Unlike Told Hidden Barring Cheapest Apart Unseen Seen LastRows
-    Never Woven Unwoven""".split()
+    Never Woven Unwoven Rate Moves History Order Barred""".split()
+# Words of the library that may be imported, and then are called alone.
+LIBRARY = {"math": ["lcm"]}
 
 
 def trees():
@@ -135,6 +147,9 @@ class Modules(unittest.TestCase):
     def test_imports(self):
         for name, node in nodes(ast.Import, ast.ImportFrom):
             self.assertIsInstance(node, ast.ImportFrom, name)
+            if node.module in LIBRARY:
+                self.assertLessEqual({alias.name for alias in node.names}, set(LIBRARY[node.module]))
+                continue
             package, module = node.module.split(".")
             self.assertEqual((package, node.level), ("allbrokers", 0))
             names = defined(TREES[module][1]) + constants(TREES[module][1])
@@ -153,7 +168,8 @@ class Modules(unittest.TestCase):
     def test_no_cycles(self):
         ahead = {name: set() for name in TREES}
         for name, node in nodes(ast.ImportFrom):
-            ahead[name].add(node.module.split(".")[1])
+            if node.module not in LIBRARY:
+                ahead[name].add(node.module.split(".")[1])
         left = dict(ahead)
         while left:
             free = [name for name in left if not left[name] & set(left)]
@@ -240,6 +256,21 @@ class Statements(unittest.TestCase):
                   ast.NamedExpr, ast.Div, ast.Match)
         for name, node in nodes(*barred):
             self.fail(f"{name} {node}")
+
+    def test_lambdas_of_one_line_have_other_parameters(self):
+        for name, (_, tree) in TREES.items():
+            places = [(node.lineno, ast.unparse(node.args)) for node in ast.walk(tree) if isinstance(node, ast.Lambda)]
+            self.assertEqual(len(places), len(set(places)), name)
+
+    def test_words_of_the_library_are_called_alone(self):
+        words = [word for row in LIBRARY.values() for word in row]
+        for name, (_, tree) in TREES.items():
+            called = [node.func for node in ast.walk(tree) if isinstance(node, ast.Call)]
+            for node in ast.walk(tree):
+                if isinstance(node, ast.Name) and node.id in words:
+                    self.assertTrue(any(node is func for func in called), name)
+                if isinstance(node, (ast.FunctionDef, ast.arg)):
+                    self.assertNotIn(getattr(node, "name", getattr(node, "arg", None)), words)
 
     def test_with_stands_over_own_objects_alone(self):
         self.assertEqual([(name, ast.unparse(node.items[0])) for name, node in nodes(ast.With)], [("books", "self.trial() as draft")])
