@@ -5,9 +5,9 @@ from allbrokers.flows import Network
 from allbrokers.readererrors import BadBounds
 
 MOST_TICKS = 12
-# No reader has an empty name.
-SOURCE = ("", -2)
-SINK = ("", -1)
+# All other nodes have tuples as names; no reader has an empty name, which stands for the pool of a tick.
+SOURCE = "source"
+SINK = "sink"
 
 
 class History:

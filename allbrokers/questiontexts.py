@@ -4,11 +4,9 @@ from allbrokers.errors import BadText
 from allbrokers.questions import GREATEST, MOST_DEPTH, check_question, is_question
 from allbrokers.readererrors import BadQuestion
 from allbrokers.readers import are_letters
+from allbrokers.words import DIGITS, Words
 
 LANGUAGE = ("last", "seen", "since", "just", "count", "not", "and", "or", "is", "mod")
-SMALL = "abcdefghijklmnopqrstuvwxyz"
-FIGURES = "0123456789"
-SIGNS = "|()"
 
 
 def write_question(letters, question):
@@ -59,77 +57,59 @@ def enclosed(question, heads):
     return f"({written(question)})" if question[0] in heads else written(question)
 
 
-class Reading:
-    """The reading of a text, of which the words are taken one by one."""
+class Reading(Words):
+    """The reading of a text on some letters."""
 
     def __init__(self, letters, text):
+        super().__init__(1, text, len(text) + 1)
         self._letters = letters
-        self._columns, self._words = words_of(text)
-        # Behind the last word the text ends too early, for whoever wants another one.
-        self._columns.append(len(text) + 1)
-        self._words.append("")
-        self._at = 0
+        self.refuse_other_signs("|()")
 
     def whole(self):
         """The question of the whole text."""
         question = self._any_of(0)
-        if self._word() != "":
-            self._refuse()
+        self.take_end()
         return question
-
-    def _word(self):
-        """The next word; the empty text behind the last one."""
-        return self._words[self._at]
-
-    def _refuse(self):
-        """Raise the error that the next word cannot stand."""
-        raise BadText(1, self._columns[self._at])
-
-    def _take(self, word):
-        """Take the next word, which must be this one."""
-        if self._word() != word:
-            self._refuse()
-        self._at += 1
 
     def _any_of(self, depth):
         """Questions with `or` between, within so many nots and parentheses."""
         parts = [self._all_of(depth)]
-        while self._word() == "or":
-            self._take("or")
+        while self.word() == "or":
+            self.take("or")
             parts.append(self._all_of(depth))
         return parts[0] if len(parts) == 1 else ("either", tuple(parts))
 
     def _all_of(self, depth):
         """Questions with `and` between."""
         parts = [self._single(depth)]
-        while self._word() == "and":
-            self._take("and")
+        while self.word() == "and":
+            self.take("and")
             parts.append(self._single(depth))
         return parts[0] if len(parts) == 1 else ("both", tuple(parts))
 
     def _single(self, depth):
         """A question without `and` and `or` outside of parentheses."""
-        word = self._word()
+        word = self.word()
         if word not in ("not", "("):
             return self._plain()
         if depth == MOST_DEPTH:
-            self._refuse()
-        self._take(word)
+            self.refuse()
+        self.take(word)
         if word == "not":
             return ("not", self._single(depth + 1))
         question = self._any_of(depth + 1)
-        self._take(")")
+        self.take(")")
         return question
 
     def _plain(self):
         """A question without questions in it."""
-        word = self._word()
+        word = self.word()
         if word not in ("last", "seen", "just", "count"):
             some = self._some()
-            self._take("since")
+            self.take("since")
             return ("since", some, self._some())
-        self._take(word)
-        if word == "count" and self._word() in self._letters:
+        self.take(word)
+        if word == "count" and self.word() in self._letters:
             return self._turns()
         if word in ("just", "count"):
             number = self._number(1, GREATEST[word])
@@ -139,55 +119,25 @@ class Reading:
     def _turns(self):
         """The rest of a question of turns, behind its first word."""
         some = self._some()
-        self._take("mod")
+        self.take("mod")
         number = self._number(2, GREATEST["turns"])
-        self._take("is")
+        self.take("is")
         return ("turns", some, number, self._number(0, number - 1))
 
     def _some(self):
         """Letters with `|` between, each once."""
         found = [self._letter([])]
-        while self._word() == "|":
-            self._take("|")
+        while self.word() == "|":
+            self.take("|")
             found.append(self._letter(found))
         return tuple(sorted(found))
 
     def _letter(self, others):
         """A letter that is none of others."""
-        word = self._word()
-        if word not in self._letters or word in others:
-            self._refuse()
-        self._at += 1
-        return word
+        word = self.word()
+        return self.take_if(word in self._letters and word not in others)
 
     def _number(self, low, high):
         """A number of one figure, from one to another."""
-        word = self._word()
-        if len(word) != 1 or word not in FIGURES or not low <= int(word) <= high:
-            self._refuse()
-        self._at += 1
-        return int(word)
-
-
-def words_of(text):
-    """The columns and the words of a text; a sign that is no part of a word is refused."""
-    columns, words, at = [], [], 0
-    while at < len(text):
-        behind = end_of_word(text, at)
-        if text[at] != " ":
-            columns.append(at + 1)
-            words.append(text[at:behind])
-        at = behind
-    return columns, words
-
-
-def end_of_word(text, at):
-    """The place behind the word, or the blank, that begins at a place."""
-    for signs in (SMALL, FIGURES):
-        if text[at] in signs:
-            while at < len(text) and text[at] in signs:
-                at += 1
-            return at
-    if text[at] != " " and text[at] not in SIGNS:
-        raise BadText(1, at + 1)
-    return at + 1
+        word = self.word()
+        return int(self.take_if(len(word) == 1 and word in DIGITS and low <= int(word) <= high))

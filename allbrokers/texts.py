@@ -5,9 +5,8 @@ from allbrokers.errors import BadText
 from allbrokers.links import Link
 from allbrokers.machines import MOST_STATES, Machine
 from allbrokers.routes import Route
+from allbrokers.words import DIGITS, Words
 
-LETTERS = "abcdefghijklmnopqrstuvwxyz"
-DIGITS = "0123456789"
 MOST_DIGITS = 6
 
 
@@ -115,51 +114,20 @@ def lines_of(text):
     return found
 
 
-class Line:
-    """A line of a text, of which the words are taken one by one."""
+class Line(Words):
+    """A line of a text, without its remark."""
 
     def __init__(self, place, text):
-        self._place = place
-        self._columns, self._words = words_of(text)
-        # Behind the last word the line ends too early, for whoever wants another one.
-        self._columns.append(len(text) + 1)
-        self._words.append("")
-        self._at = 0
-
-    def word(self):
-        """The next word, or sign that is none; the empty text behind the last one."""
-        return self._words[self._at]
-
-    def refuse(self):
-        """Raise the error that the next word does not fit."""
-        raise BadText(self._place, self._columns[self._at])
-
-    def take(self, word):
-        """Take the next word, which must be this one."""
-        if self.word() != word:
-            self.refuse()
-        self._at += 1
+        super().__init__(place, text.partition("#")[0], len(text) + 1)
 
     def take_name(self):
         """Take a word of 1 to 8 letters."""
-        name = self.word()
-        if not is_word(name):
-            self.refuse()
-        self._at += 1
-        return name
+        return self.take_if(is_word(self.word()))
 
     def take_number(self, low, high):
         """Take a number from low to high."""
         digits = self.word()
-        if not is_numeral(digits) or not low <= int(digits) <= high:
-            self.refuse()
-        self._at += 1
-        return int(digits)
-
-    def take_end(self):
-        """Refuse a word behind the last one that fits."""
-        if self.word() != "":
-            self.refuse()
+        return int(self.take_if(is_numeral(digits) and low <= int(digits) <= high))
 
 
 def is_numeral(word):
@@ -167,28 +135,3 @@ def is_numeral(word):
     if not word or word[0] not in DIGITS or len(word) > MOST_DIGITS:
         return False
     return word == "0" or word[0] != "0"
-
-
-def words_of(text):
-    """The columns and the words of a line, remarks left out; a sign that is no word stands for itself."""
-    text = text.partition("#")[0]
-    columns, words, at = [], [], 0
-    while at < len(text):
-        behind = end_of_word(text, at)
-        if text[at] != " ":
-            columns.append(at + 1)
-            words.append(text[at:behind])
-        at = behind
-    return columns, words
-
-
-def end_of_word(text, at):
-    """The place behind the word, or the sign, that begins at a place."""
-    if text[at:at + 2] == "->":
-        return at + 2
-    for signs in (LETTERS, DIGITS):
-        if text[at] in signs:
-            while at < len(text) and text[at] in signs:
-                at += 1
-            return at
-    return at + 1

@@ -157,6 +157,15 @@ class HandOver(unittest.TestCase):
         self.assertFalse(Order([], []).shows(deal, goal, {"x": 1, "y": 1}))
         self.assertFalse(Order([], [["x", "y"]]).shows(deal, goal, {"x": 1, "y": 1}))
 
+    def test_orders_beyond_a_cap(self):
+        # Behind the first move the reader x has room for one lane, not for two.
+        deal, goal = {"k": "x", "n": "x", "l": "y", "m": "z"}, {"k": "w", "n": "v", "l": "x", "m": "x"}
+        caps = {"x": 2, "y": 1, "z": 1, "w": 1, "v": 1}
+        moves = [("k", "x", "w"), ("l", "y", "x"), ("n", "x", "v"), ("m", "z", "x")]
+        self.assertTrue(Order(moves, []).shows(deal, goal, caps))
+        self.assertFalse(Order([moves[0], moves[1], moves[3], moves[2]], []).shows(deal, goal, caps))
+        self.assertFalse(Order(moves[1:2] + moves[:1] + moves[2:], []).shows(deal, goal, caps))
+
     def test_order_of_parts(self):
         deal = dict(zip("klmn", "uvwx"))
         goal = dict(zip("klmn", "vuxw"))

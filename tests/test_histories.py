@@ -27,6 +27,16 @@ def slow_least_cost(deal, history, prices, name):
     return min(row_cost(list(rows), load_of(deal, name), prices) for rows in itertools.product(*ranges))
 
 
+def long_least_cost(deal, history, prices, name):
+    """The same from the last tick back, for histories that are too long for trying all rows."""
+    cheapest = [0] * (len(deal) + 1)
+    for bounds, price in zip(history[::-1], prices[::-1]):
+        low, high = bounds.get(name, (0, 0))
+        numbers = range(low, min(high, len(deal)) + 1)
+        cheapest = [min([(before - now) * ((before > now) - price) + cheapest[now] for now in numbers]) for before in range(len(deal) + 1)]
+    return cheapest[load_of(deal, name)]
+
+
 def some_history(rng, ticks, many, readers, fits=True):
     return [fitting_bounds(rng, many, readers) if fits else some_bounds(rng, readers, 4) for _ in range(ticks)]
 
@@ -76,9 +86,8 @@ class LeastHistory(unittest.TestCase):
             changed += sum(before[lane] != now[lane] for lane in deal)
         self.assertEqual(changed, found.moves)
         self.assertTrue(all(type(price) is int for price in found.prices))
-        if is_small:
-            costs = [slow_least_cost(deal, history, found.prices, name) for name in names_in(deal, *history)]
-            self.assertEqual(sum(costs), found.moves)
+        least = slow_least_cost if is_small else long_least_cost
+        self.assertEqual(sum(least(deal, history, found.prices, name) for name in names_in(deal, *history)), found.moves)
 
     def test_no_prices_bar_more(self):
         rng = rng_of(281)

@@ -125,7 +125,7 @@ class Weaving(unittest.TestCase):
         good = [(1, 1)]
         self.assertEqual(judge_weaving(reader, ("a",), ("b",)), Woven(good))
         self.assertTrue(Woven(((1, 1), (0, 0), (1, 1))).shows(reader, ("a",), ("b",)))
-        for pairs in ([], [(0, 0)], good + [(0, 1)], good + [(1, 0)], good + [(2, 2)], good + [(-1, -1)], good + [(1, 2)], good + [(-1, 1)]):
+        for pairs in ([], [(0, 0)], good + [(0, 1)], good + [(1, 0)], good + [(2, 2)], good + [(2, 1)], good + [(-1, -1)], good + [(1, 2)], good + [(-1, 1)], good + [(1, -1)]):
             self.assertFalse(Woven(pairs).shows(reader, ("a",), ("b",)), pairs)
         self.assertFalse(Woven(good).shows(reader_of(AB, [("count", ("a",), 2)]), ("a",), ("b",)))
         # Each state that lanes lead to must have its pairs, and all letters must lead on to pairs.
